@@ -6,35 +6,16 @@ import unittest
 from kinds import no_places, strange_things
 from matchgift.errors import GiftError, NoDeed
 from matchgift.runs import ended_by, may_run, ran
+from plain import one_by_one, whole_walk
 
 GREATEST = 10 ** 30 - 1
 MOST_SMALL = 40
 
 
-def one_deed(first, second):
-    """The amounts behind one deed of a run; where both have the same, the first one gives."""
-    if first >= second:
-        return first - second, 2 * second
-    return 2 * first, second - first
-
-
-def one_by_one(first, second, most):
-    """The amounts behind 0, 1, .. deeds done one by one, `most` deeds at the most."""
-    stands = [(first, second)]
-    while 0 not in stands[-1] and len(stands) <= most:
-        stands.append(one_deed(*stands[-1]))
-    return stands
-
-
 def told_end(first, second):
     """How many deeds there are until one has nothing, None where the amounts come round."""
-    seen = set()
-    while first > 0 and second > 0:
-        if (first, second) in seen:
-            return None
-        seen.add((first, second))
-        first, second = one_deed(first, second)
-    return len(seen)
+    stands, behind = whole_walk(first, second)
+    return len(stands) - 1 if behind is None else None
 
 
 class RunTest(unittest.TestCase):
