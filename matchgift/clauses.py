@@ -23,8 +23,11 @@ def asked_of_any(row, other):
     )
 
 
-def comes_by_two(row, other):
-    """Whether the other row comes of one in which two holders have something; TooGreat of a sum above 100000."""
+def run_of_two(row, other):
+    """The run by which the other row comes of one in which two holders have something, None where it doesn't.
+
+    TooGreat of a sum above 100000.
+    """
     i, j = holders(row)
     # Where both have the same either may give all: it is whoever has nothing in
     # the other row.
@@ -32,7 +35,8 @@ def comes_by_two(row, other):
         i, j = j, i
     # What the two have together is the row's sum, so deeds_until refuses just
     # the sums that are to be refused here.
-    return deeds_until(row, i, j, other[j]) is not None
+    many = deeds_until(row, i, j, other[j])
+    return None if many is None else (i, j, many)
 
 
 def broken(row, other):
@@ -45,9 +49,7 @@ def broken(row, other):
     if clauses or len(holders(row)) > 2:
         return clauses
     # Of one holder alone an unlike row breaks sum or nothing, so there are two here.
-    if comes_by_two(row, other):
-        return ()
-    return ("pair",)
+    return ("pair",) if run_of_two(row, other) is None else ()
 
 
 def comes(row, other):

@@ -13,10 +13,11 @@ def fewest(row):
     return 1 if odd_part(sum(row)) == measure(row) else 2
 
 
-def lessening(row):
-    """Deeds of three holders behind which the least amount is at most half of what it was, perhaps 0."""
-    places = sorted(holders(row), key=lambda place: row[place])
-    least, middle, greatest = places[0], places[1], places[-1]
+def rest_deeds(row, least, middle, greatest):
+    """Deeds of three holders, given from the least amount on, behind which one has at most half of the least amount.
+
+    Nobody is left with nothing, but the middle one where the least amount parts its amount.
+    """
     times, rest = divmod(row[middle], row[least])
     # The rest alone might be almost the least amount each time, and the plan too
     # long; by the times rounded to the nearest at most half of it is left.
@@ -34,6 +35,12 @@ def lessening(row):
     # than the one who was doubled, who keeps what is too much.
     steps.append((least, middle) if rounded_up else (middle, least))
     return steps
+
+
+def lessening(row):
+    """Deeds of three holders behind which the least amount is at most half of what it was, perhaps 0."""
+    places = sorted(holders(row), key=lambda place: row[place])
+    return rest_deeds(row, places[0], places[1], places[-1])
 
 
 def last_runs(row):

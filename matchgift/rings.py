@@ -25,7 +25,7 @@ def primes_in(n):
             primes.append(prime)
         while n % prime == 0:
             n = n // prime
-        prime += 1
+        prime += 1 if prime == 2 else 2
     if n > 1:
         primes.append(n)
     return primes

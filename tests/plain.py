@@ -79,3 +79,31 @@ def done(row, plan):
                 return None
             amounts[i], amounts[j] = one_deed(amounts[i], amounts[j])
     return tuple(amounts)
+
+
+def jumped(row, plan):
+    """The row behind the runs of a plan that may be done, however many deeds: a deed doubles both by rests by their sum.
+
+    None where a run leaves somebody with nothing earlier than by its last deed, or may not be done otherwise.
+    """
+    amounts = list(row)
+    for i, j, k in plan:
+        if i == j or not 0 <= i < len(row) or not 0 <= j < len(row) or 0 in (amounts[i], amounts[j]):
+            return None
+        whole = amounts[i] + amounts[j]
+        if k > 0 and amounts[i] * pow(2, k - 1, whole) % whole == 0:
+            return None
+        amounts[i] = amounts[i] * pow(2, k, whole) % whole
+        amounts[j] = whole - amounts[i]
+    return tuple(amounts)
+
+
+def mixed(seed, many, most):
+    """A row of so many holders, the sum at most `most`, the same for the same seed."""
+    part = most // many
+    return tuple(1 + pow(seed + 2, 1000 + 37 * place, 10 ** 40 + 121) % part for place in range(many))
+
+
+def shared_out(total, parts):
+    """A row of the total, each of the parts at its place and all that is left at the last one."""
+    return tuple(parts) + (total - sum(parts),)

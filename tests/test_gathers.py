@@ -7,7 +7,7 @@ import unittest
 from matchgift.gathers import fewest, gather, lessening
 from matchgift.plans import after
 from matchgift.rows import is_row
-from plain import all_that_come, done, how_many_have, rows_of
+from plain import all_that_come, done, how_many_have, mixed, rows_of, shared_out
 
 GREATEST = 10 ** 30 - 1
 MOST_RUNS = 200000
@@ -24,17 +24,6 @@ def told_few(row):
     while times % 2 == 0:
         times = times // 2
     return 1 if times == 1 or how_many_have(row) == 1 else 2
-
-
-def mixed(seed, many, most):
-    """A row of so many holders, the sum at most `most`, the same for the same seed."""
-    part = most // many
-    return tuple(1 + pow(seed + 2, 1000 + 37 * place, 10 ** 40 + 121) % part for place in range(many))
-
-
-def shared_out(total, parts):
-    """A row of the total, each of the parts at its place and all that is left at the last one."""
-    return tuple(parts) + (total - sum(parts),)
 
 
 class Gathered(unittest.TestCase):
