@@ -117,6 +117,41 @@ class LanguageTest(unittest.TestCase):
                     self.assertIsInstance(node.right, ast.Constant, f"L27: {name}")
                     self.assertIn(node.right.value, range(0, 65), f"L27: {name}")
 
+    def test_no_generator_expressions_and_no_sets(self):
+        # A class of the package has __eq__, so lists stand in their place.
+        for name in files():
+            for node in nodes(name):
+                self.assertNotIsInstance(node, ast.GeneratorExp, f"L7: {name}")
+                self.assertNotIsInstance(node, (ast.Set, ast.SetComp), f"L24: {name}")
+                if isinstance(node, ast.Name):
+                    self.assertNotIn(node.id, ("set", "frozenset"), f"L24: {name}")
+
+    def test_nothing_is_stored_that_is_to_be_iterated_at_once(self):
+        for name in files():
+            for node in nodes(name):
+                if isinstance(node, (ast.Assign, ast.Return)) and isinstance(node.value, ast.Call):
+                    called = node.value.func
+                    self.assertNotIn(
+                        getattr(called, "id", getattr(called, "attr", "")),
+                        ("range", "zip", "enumerate", "reversed", "items", "keys", "values"), f"L23: {name}",
+                    )
+
+    def test_no_method_is_an_attribute_elsewhere(self):
+        methods, attributes = set(), set()
+        for name in files():
+            for node in nodes(name):
+                if isinstance(node, ast.ClassDef):
+                    methods |= {one.name for one in node.body if isinstance(one, ast.FunctionDef)}
+                if isinstance(node, ast.Attribute) and isinstance(node.ctx, ast.Store):
+                    attributes.add(node.attr)
+        self.assertFalse(methods & attributes, "L18")
+
+    def test_handlers_name_own_errors(self):
+        for name in files():
+            for node in nodes(name):
+                if isinstance(node, ast.ExceptHandler):
+                    self.assertRegex(getattr(node.type, "id", ""), r"^(No|Too)[A-Z]", f"L19: {name}")
+
 
 if __name__ == "__main__":
     unittest.main()
