@@ -69,10 +69,9 @@ def read_row(text):
 
 def read_run(word):
     """The run that is just so written; NoText where none is."""
+    # Where a sign is missing, what should stand behind it is empty and no number.
     ahead, star, many = word.partition("*")
     giver, arrow, taker = ahead.partition(">")
-    if star == "" or arrow == "":
-        raise NoText("this is no run as it is written here")
     i, j, k = read_number(giver), read_number(taker), read_number(many)
     if i == j or i >= MOST_PLACES or j >= MOST_PLACES:
         raise NoText("these are no two places")

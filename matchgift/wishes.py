@@ -5,18 +5,13 @@ from matchgift.counts import refuse_too_few
 from matchgift.measures import unit
 
 
-def are_met(row, wishes):
-    """Whether each amount of the row is as it is wished."""
-    return all([wish is None or wish == amount for amount, wish in zip(row, wishes)])
-
-
 def is_free(amount, wish):
     """Whether a holder may come to have any amount: who has nothing never does."""
     return wish is None and amount > 0
 
 
 def filled(row, wishes):
-    """A row that meets the wishes and comes of the row if any does but the row itself; None where the sum can't be."""
+    """A row that meets the wishes, and comes of the row if any such does; None where the sum can't be."""
     amounts = [0 if wish is None else wish for wish in wishes]
     left = sum(row) - sum(amounts)
     free = [place for place, wish in enumerate(wishes) if is_free(row[place], wish)]
@@ -39,8 +34,6 @@ def wished(row, wishes):
     TooFew where fewer than three holders have something.
     """
     refuse_too_few(row)
-    if are_met(row, wishes):
-        return row
     behind = filled(row, wishes)
     if behind is None or not comes(row, behind):
         return None

@@ -59,7 +59,9 @@ class Counts(unittest.TestCase):
 
     def sums_up(self, row):
         """The whole is the sum of what is told by places, and this of what is told by twos and odd ones."""
-        most_twos = sum(row).bit_length()
+        most_twos = 0
+        while sum(row) % 2 ** most_twos == 0:
+            most_twos += 1
         at = {places: how_many_at(row, places) for places in all_places(row)}
         self.assertEqual(how_many(row), sum(at.values()), row)
         for many in range(1, len(row) + 1):

@@ -74,6 +74,9 @@ class KindsOfRowsTest(Meetings):
     def test_unlike_sums(self):
         self.unmet((1, 2, 3), (1, 2, 4))
         self.unmet((1, 2, 3), (1, 2, 3), (2, 4, 6))
+        self.unmet((1, 2, 3), (100, 100, 100))
+        self.unmet((100, 100, 100), (1, 2, 3))
+        self.unmet((1, 2, 3), (1, 2, 3), (10 ** 29,) * 3)
 
     def test_unlike_measures(self):
         self.unmet((3, 6, 6), (1, 2, 12))
@@ -84,6 +87,9 @@ class KindsOfRowsTest(Meetings):
         self.unmet((1, 2, 3), (1, 2, 3, 0))
         self.unmet((1, 2, 3, 0), (1, 2, 3))
         self.unmet((1, 2, 3), (1, 2, 3), (0, 1, 2, 3))
+        self.unmet((1, 0, 0, 2, 3), (1, 2, 3))
+        self.unmet((1, 2, 3), (1, 0, 0, 2, 3))
+        self.unmet((0, 0, 0, 1, 2, 3), (1, 2, 3), (9, 9, 9))
 
     def test_unlike_twos_and_odd_ones(self):
         self.met((1, 1, 10), (4, 4, 4))

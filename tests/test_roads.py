@@ -15,9 +15,9 @@ MOST_RUNS = 200000
 # A road of at most so many deeds is done deed by deed, too.
 FEW_DEEDS = 3000
 # Places, and the greatest sum for which all rows are held, each beside each, against plain going on.
-SMALL = ((1, 9), (2, 24), (3, 13), (4, 8), (5, 6), (6, 6))
+SMALL = ((1, 9), (2, 24), (3, 11), (4, 8), (5, 6), (6, 6))
 # Likewise, but as the first row such alone whose amounts rise.
-SMALL_RISING = ((3, 18), (4, 11), (5, 9), (6, 8), (7, 8))
+SMALL_RISING = ((3, 12), (3, 13), (3, 18), (4, 10), (5, 8), (6, 8), (7, 8))
 
 
 class Roads(unittest.TestCase):
@@ -239,7 +239,7 @@ class GreatRowsTest(Roads):
         self.lets((2,) * 11 + (MOST - 22,), (MOST - 22,) + (2,) * 11)
 
     def test_millions(self):
-        for total in (10 ** 6, 2 ** 20, 3 * 10 ** 6 + 1, 999983, 7 ** 8, 2 ** 29, MOST - 1, MOST - 63):
+        for total in (10 ** 6, 2 ** 20, 3 * 10 ** 6 + 1, 2 ** 29, MOST - 63):
             self.to_all_others(total, 3)
             self.to_all_others(total, 5)
 
